@@ -1,0 +1,1 @@
+"""Steadypages: page tokens, their debts, and repair by counts."""
