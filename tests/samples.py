@@ -45,3 +45,15 @@ def check_answers_for_any_value(test, question):
             before = copy.deepcopy(value)
             test.assertIs(type(question(value)), bool)
             test.assertEqual(repr(value), repr(before))
+
+
+def check_error(test, error, name, value, call, *arguments, **named):
+    """Check that a call raises exactly this error, and that the error keeps the value itself."""
+    with test.assertRaises(error) as caught:
+        call(*arguments, **named)
+    test.assertIs(type(caught.exception), error)
+    kept = getattr(caught.exception, name)
+    test.assertIs(type(kept), type(value))
+    test.assertEqual(repr(kept), repr(value))
+    if isinstance(value, (list, dict)):
+        test.assertIs(kept, value)
