@@ -138,7 +138,7 @@ def is_edit(columns, value):
     if not isinstance(value, tuple) or len(value) == 0:
         return False
     if value[0] == "put":
-        return len(value) == 3 and is_row(columns, value[1:])
+        return is_row(columns, value[1:])
     return value[0] == "drop" and len(value) == 2 and is_row_id(value[1])
 
 

@@ -170,8 +170,10 @@ class ParseAnyValueTest(TextTest):
     def test_newlines(self):
         for text in ("^\n", "^\nall", "all^\n", "size ^\n= 1", "size = 1^\n", "all and ^\nall", "   ^\n"):
             self.check_bad_at_sign(text)
-        for text in ('name = ^"\n"', 'name = ^"a\nb"', 'name starts ^"a\n"'):
+        for text in ('name = ^"\n"', 'name = ^"a\nb"', 'name starts ^"a\n"', 'name in ("a", ^"\nb")', 'all ^"\n"'):
             self.check_bad_at_sign(text)
+            self.check_bad_at_sign(text + " all")
+            self.check_bad_at_sign(text + " and")
 
     def test_lengths(self):
         for many in (197, 198, 199, 200):
