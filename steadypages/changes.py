@@ -18,6 +18,11 @@ def change_set(table, view, since, until, low, high):
     """Return the change set of a view between two known versions and two marks."""
     before = copy_of(window_rows(table, view, since, low, high))
     after = copy_of(window_rows(table, view, until, low, high))
+    return changes_between(before, after)
+
+
+def changes_between(before, after):
+    """Return the change set that turns one copy into another, in ascending order of ids."""
     pairs = {row_id: (before.get(row_id), after.get(row_id)) for row_id in sorted({**before, **after})}
     return without_equal(pairs)
 

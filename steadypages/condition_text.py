@@ -3,11 +3,11 @@
 from steadypages.conditions import MOST_CHOICES, is_condition
 from steadypages.errors import BadCondition
 from steadypages.values import is_value
+from steadypages.words import DIGITS
 
 LONGEST_TEXT = 200
 MOST_NESTED = 20
 LETTERS = "abcdefghijklmnopqrstuvwxyz"
-DIGITS = "0123456789"
 SINGLE_SIGNS = "=<(),"
 KINDS_BY_SIGN = {"=": "equal", "<": "less", "starts": "starts", "in": "one_of"}
 SIGNS_BY_KIND = {"equal": "=", "less": "<", "starts": "starts", "one_of": "in"}

@@ -40,13 +40,17 @@ def correction_to(row_id, delivered):
     return ("put", key, shown)
 
 
+def corrected_id(correction):
+    """Return the id that a correction is about."""
+    if correction[0] == "drop":
+        return correction[1]
+    return correction[1][-1]
+
+
 def apply_corrections(rows, corrections):
     """Return the copy after corrections, in the order of their list."""
     corrected = {row_id: rows[row_id] for row_id in rows}
     for correction in corrections:
-        if correction[0] == "drop":
-            set_row(corrected, correction[1], None)
-        else:
-            key, shown = correction[1:]
-            set_row(corrected, key[-1], (key, shown))
+        delivered = None if correction[0] == "drop" else correction[1:]
+        set_row(corrected, corrected_id(correction), delivered)
     return corrected

@@ -121,6 +121,18 @@ class Table:
             self._check_known(version)
         self._steps = folded_steps(self._steps, [*versions, self._present])
 
+    def steps(self):
+        """Return the dict from the known versions, ascending, to their steps."""
+        return {version: {row_id: step[row_id] for row_id in step} for version, step in self._steps.items()}
+
+    def take_steps(self, steps):
+        """Become the table with these steps, whose versions ascend."""
+        self._steps = {version: {row_id: step[row_id] for row_id in step} for version, step in steps.items()}
+        self._states = {}
+        for step in self._steps.values():
+            take_step(self._states, step)
+        self._present = max(self._steps)
+
     def log_entries(self):
         """Return the list of (version, id, before, after), ascending."""
         first = min(self._steps)

@@ -38,6 +38,15 @@ def any_values():
     ]
 
 
+def plain_value_text(value):
+    """Return the text of a value, in the words of point [24]."""
+    if value is None:
+        return "none"
+    if isinstance(value, int):
+        return "%d" % value
+    return '"' + "".join("\\" + sign if sign in '"\\' else sign for sign in value) + '"'
+
+
 def check_answers_for_any_value(test, question):
     """Check that a question about any value is answered by a bool and changes nothing."""
     for value in any_values():

@@ -1,68 +1,26 @@
 import copy
-import functools
 import itertools
-import random
 import unittest
 
 from steadypages import changes
 from steadypages.changes import change_set, compose, hide_columns, invert, restrict, window_rows
 from steadypages.copies import apply_changes, copy_of
 from steadypages.errors import Mismatch, UnknownVersion
-from steadypages.marks import is_between
 from steadypages.tables import Table
-from steadypages.views import compare_keys, delivered_row
+from histories import ALL, END, START, VIEW, VIEWS, grown, plain_window, some_marks
 from samples import any_values, check_error
 
-ALL = ("all",)
-START, END = ("start",), ("end",)
-VIEW = (ALL, ((0, False),), (0,))
-VIEWS = (
-    VIEW,
-    (ALL, (), (0, 1)),
-    (ALL, ((0, True),), (1,)),
-    (("less", 0, 7), ((1, True), (0, False)), ()),
-    (("not", ("starts", 1, "a")), ((1, False),), (0, 1)),
-)
 # Delivered rows of VIEW.
 A, B, C, D = ((5, 1), (5,)), ((6, 1), (6,)), ((7, 1), (7,)), ((5, 2), (5,))
 
 
-def window_in_another_way(table, view, version, low, high):
-    compared = functools.cmp_to_key(lambda first, second: compare_keys(view, first[0], second[0]))
-    rows = [delivered_row(view, row_id, values) for row_id, values in table.rows_at(version).items()]
-    return sorted([row for row in rows if row and is_between(view, row[0], low, high)], key=compared)
-
-
 def change_set_in_another_way(table, view, since, until, low, high):
-    before = {row[0][-1]: row for row in window_in_another_way(table, view, since, low, high)}
-    after = {row[0][-1]: row for row in window_in_another_way(table, view, until, low, high)}
+    before = {row[0][-1]: row for row in plain_window(table, view, since, low, high)}
+    after = {row[0][-1]: row for row in plain_window(table, view, until, low, high)}
     return {
         row_id: (before.get(row_id), after.get(row_id))
         for row_id in range(1, 20) if before.get(row_id) != after.get(row_id)
     }
-
-
-def grown(seed, many=8):
-    """Return a table with many versions, of rows with few different values."""
-    maker = random.Random(seed)
-    table = Table(("size", "name"))
-    while table.present() < many:
-        table.change_rows([
-            ("put", maker.randrange(1, 6), (maker.choice([None, 5, 6, 7, "a"]), maker.choice(["a", "ab", "b"])))
-            if maker.random() < 0.7 else ("drop", maker.randrange(1, 6))
-            for _ in range(maker.randrange(1, 4))
-        ])
-    return table
-
-
-def some_marks(table, view):
-    """Return marks of a view in its order, at keys of rows and at keys of none."""
-    keys = {row[0] for version in table.known_versions()[::3]
-            for row in window_in_another_way(table, view, version, START, END)}
-    keys.add((*[6] * len(view[1]), 3))
-    compared = functools.cmp_to_key(lambda first, second: compare_keys(view, first, second))
-    inner = [(kind, key) for key in sorted(keys, key=compared)[::2] for kind in ("before", "after")]
-    return [START, *inner, END]
 
 
 class ChangesTest(unittest.TestCase):
@@ -138,7 +96,7 @@ class WindowTest(ChangesTest):
                     version = (seed + len(repr(low)) + len(repr(high))) % 9
                     self.assertEqual(
                         window_rows(table, view, version, low, high),
-                        window_in_another_way(table, view, version, low, high),
+                        plain_window(table, view, version, low, high),
                     )
 
     def test_versions_that_are_not_known(self):
