@@ -12,8 +12,9 @@ from steadypages.views import key_place
 class Repair:
     """The reader's side of a repair: which counts to ask for, and what they tell.
 
-    A range is a tuple (low, high, first, past, count): its marks, the places of
-    its copy rows among the keys, and the count of its unchanged rows.
+    A range is a tuple (low, first, past, count): its low mark, the places among
+    the keys where its copy rows begin and end, and the count of its unchanged
+    rows.
     """
 
     def __init__(self, low, high, keys):
@@ -36,12 +37,13 @@ class Repair:
         """Return whether any value is a possible count of the range that is asked about."""
         if self._asked is None or not is_integer(count):
             return False
-        many = self._asked[3] - self._asked[2]
+        low, high, first, past = self._asked
+        if not 0 <= count <= past - first:
+            return False
         if len(self._waiting) == 0:
-            return 0 <= count <= many
-        whole = self._waiting[-1]
-        rest = whole[4] - count
-        return 0 <= count <= many and 0 <= rest <= whole[3] - self._asked[3]
+            return True
+        whole_low, whole_first, whole_past, whole_count = self._waiting[-1]
+        return 0 <= whole_count - count <= whole_past - past
 
     def answer(self, count):
         """Take the count of the range that is asked about."""
@@ -50,15 +52,15 @@ class Repair:
         low, high, first, past = self._asked
         self._answers.append((low, high, count))
         if len(self._waiting) > 0:
-            whole = self._waiting.pop()
-            self._waiting.append((high, whole[1], past, whole[3], whole[4] - count))
-        self._waiting.append((low, high, first, past, count))
+            whole_low, whole_first, whole_past, whole_count = self._waiting.pop()
+            self._waiting.append((high, past, whole_past, whole_count - count))
+        self._waiting.append((low, first, past, count))
         self._asked = self._next_asked()
 
     def _next_asked(self):
         """Finish the ranges that can be finished; return what is asked about next, or None."""
         while len(self._waiting) > 0:
-            low, high, first, past, count = self._waiting[-1]
+            low, first, past, count = self._waiting[-1]
             if 0 < count < past - first:
                 middle = first + (past - first + 1) // 2
                 return (low, ("after", self._keys[middle - 1]), first, middle)

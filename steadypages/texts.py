@@ -76,7 +76,7 @@ def read_token(text, views):
     """Return the tuple of the name and the token of a text; BadText may keep a part of it."""
     body, _, check = text.rpartition(" ")
     words = split_words(body)
-    if check != str(check_number(body)) or len(words) < 4 or words[2] not in views:
+    if check != str(check_number(body)) or len(words) < 3 or words[2] not in views:
         raise BadText(text)
     name = words[2]
     version = read_number(words[1])

@@ -100,6 +100,7 @@ class OpenTopTest(PagesTest):
     def test_counts_beyond_the_greatest_raise_no_error(self):
         self.assertEqual(open_top(three_rows(), VIEW, 10 ** 6 + 1)[1], ("top", VIEW, 3, 10 ** 6 + 1))
         self.assertEqual(len(open_top(three_rows(), VIEW, 10 ** 6 + 1)[0]), 3)
+        self.assertEqual(open_top(three_rows(), VIEW, -1), ([], ("top", VIEW, 3, -1)))
 
     def test_an_empty_table(self):
         for count in (0, 1, 10 ** 6):

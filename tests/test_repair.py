@@ -203,32 +203,30 @@ class RepairTest(unittest.TestCase):
                 before = known
             self.assertEqual(before, stale)
 
-    def possible_counts(self, keys, answers):
-        """Return the counts of the next question that some set of unchanged rows gives after these answers."""
-        possible = set()
+    def possible_counts(self, keys):
+        """Return the dict from the answers so far to the counts that some set of unchanged rows gives next."""
+        possible = {}
         for number in range(2 ** len(keys)):
             fresh = [place for place in range(len(keys)) if number >> place & 1]
-            found = plain_repair(LOW, HIGH, keys, fresh)[0]
-            if found[:len(answers)] == answers and len(found) > len(answers):
-                possible.add(found[len(answers)][2])
+            answers = tuple(plain_repair(LOW, HIGH, keys, fresh)[0])
+            for place, (_, _, count) in enumerate(answers):
+                possible.setdefault(answers[:place], set()).add(count)
+            possible.setdefault(answers, set())
         return possible
 
     def test_every_count_at_every_question(self):
-        for many in (1, 2, 3, 5):
+        for many in (1, 2, 3, 5, 8, 9):
             keys = keys_of(many)
-            waiting = [[]]
-            while waiting:
-                answers = waiting.pop()
+            for answers, possible in self.possible_counts(keys).items():
                 repair = self.follow(keys, answers)
                 before = self.picture(repair)
-                possible = self.possible_counts(keys, answers)
-                for count in range(-2, many + 3):
-                    if count in possible:
-                        waiting.append([*answers, (*repair.question(), count)])
-                    else:
-                        check_error(self, BadCount, "count", count, repair.answer, count)
-                        self.assertEqual(self.picture(repair), before)
                 self.assertEqual(possible == set(), repair.question() is None)
+                for count in range(-2, many + 3):
+                    if count not in possible:
+                        check_error(self, BadCount, "count", count, repair.answer, count)
+                self.assertEqual(self.picture(repair), before)
+                for count in possible:
+                    self.assertIsNone(self.follow(keys, answers).answer(count))
 
     def test_counts_of_an_upper_half_that_are_not_possible(self):
         repair = Repair(START, END, [(value, value) for value in range(1, 8)])
@@ -320,6 +318,9 @@ class CheckAnswersTest(unittest.TestCase):
             (1, (("before", (5, 1)), ("after", (7, 2)), 1)), (1, (START, ("after", (7, 3)), 1)),
             (2, (START, ("after", (5, 1)), 2)), (2, (START, ("after", (5, 1)), -1)), (2, (START, ("after", (7, 2)), 1)),
             (2, (("after", (5, 1)), ("after", (7, 2)), 0)), (2, (START, END, 1)),
+            (2, (START, ("after", (5, (1,))), 1)), (2, (START, ("after", ((5,), 1)), 1)), (2, (START, ("after", [5, 1]), 1)),
+            (2, (START, ("after", (5, 1, 1)), 1)), (2, (START, ("after", (5,)), 1)), (2, (START, ("after", 5, 1), 1)),
+            (2, (START, ("after", (5, "1")), 1)), (2, (START, ("after", (5, None)), 1)), (2, (START, "after", 1)),
         ):
             answers = [whole, lower, last]
             answers[index] = item
@@ -354,6 +355,7 @@ class CheckAnswersTest(unittest.TestCase):
             (["start"], END, 3), (START, ["end"], 3), ("start", END, 3), (START, "end", 3), (None, END, 3), (START, 0, 3),
             (START, END, [3]), (START, END, "3"), (START, END, None), (START, END, (3,)), {START: END}, ((START,), END, 3),
             (START, END, {}), ({}, END, 3), (START, {}, 3), (("start", 1), END, 3), ((), END, 3),
+            ((("start",),), END, 3), ((tuple("start"),), END, 3), (START, (("end",),), 3), (START, (tuple("end"),), 3),
         ]:
             self.check(0, [value])
             self.check(1, [good, value])

@@ -344,7 +344,9 @@ class ErrorsTest(ServerTest):
         self.check_say(server, ('put two 1 "a b" "c  d"', "1"), ('put two 2 " " " "', "2"), ('put two 3 "\\" \\"" "\\\\"', "3"))
         self.check_unknown_name(server, "nothing", 'drop nothing "a b"', 'put nothing "a b" "c d"', 'forget nothing "1 2"')
         self.check_unknown_name(server, '"a b"', 'open "a b"', 'known "a b"', 'save "a b"')
-        self.check_bad(server, 'drop items "1 2"', 'fold items "1 2"', 'put two 1 "a b"', 'put items 1 "a b" "c d"', 'top nothing "a b')
+        # Behind a quote that has no end, spaces separate words: there are too many.
+        self.check_bad(server, 'drop nothing " 1', 'top nothing "a b', 'known " "x y"')
+        self.check_bad(server, 'drop items "1 2"', 'fold items "1 2"', 'put two 1 "a b"', 'put items 1 "a b" "c d"')
 
     def test_a_command_that_raises_an_error_changes_nothing(self):
         server = started("fold items 0 1")
